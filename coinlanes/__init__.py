@@ -1,0 +1,1 @@
+"""Coinlanes: payments along lanes, whatever the others do."""
