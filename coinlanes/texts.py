@@ -34,8 +34,6 @@ def show_letter(letter):
 def read_state(text):
     """Tell the state that is written so. NoText."""
     words = words_of(text)
-    if len(words) < 4:
-        raise NoText("a state has at least four numbers")
     state = (*[number_of(word) for word in words[:4]], tuple([lock_in(word) for word in words[4:]]))
     if not is_state(state):
         raise NoText("no state is written so")
@@ -77,11 +75,10 @@ def is_figures(word):
 
 
 def words_of(text):
-    """Tell the words of a text, parted by single blanks. NoText."""
-    words = text.split(" ") if isinstance(text, str) else []
-    if len(words) == 0 or "" in words:
-        raise NoText("a text has words with single blanks between")
-    return words
+    """Tell the words of a text, parted by blanks; where two stand together an empty one is between. NoText."""
+    if not isinstance(text, str):
+        raise NoText("this is no text")
+    return text.split(" ")
 
 
 def number_of(word):

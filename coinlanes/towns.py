@@ -2,9 +2,9 @@
 
 from coinlanes.bounds import BOUND, FEE, GAP, WAIT
 from coinlanes.courts import Court
-from coinlanes.errors import Begun, CoinError, NoBill, NoCoins, NoHand, NoLetter, NoName, NoNumber, NotSigned, Twice
+from coinlanes.errors import Begun, CoinError, NoBill, NoHand, NoLetter, NoName, NoNumber, NotSigned, Twice
 from coinlanes.keepers import Keeper, check_amount, check_gap, check_seal
-from coinlanes.seals import is_name, is_whole, seal_of
+from coinlanes.seals import is_name, seal_of
 from coinlanes.signs import Signs
 from coinlanes.states import is_positive, share_of
 from coinlanes.ways import check_fee, find_way
@@ -53,9 +53,8 @@ class Town:
                 raise NoName("a name is a text of one to eight small letters")
             if hand in self._keepers:
                 raise Twice("the hand is there")
-            if not is_whole(coins):
-                raise NoCoins("coins are a whole number from 0 on")
-            self._found({**self._purses(), hand: coins})
+            # What are no coins the new court refuses.
+            self._found(hand, coins)
 
     def lane(self, left, right, *, left_coins=0, right_coins=0):
         """Two hands open a lane; told is its number. NoHand, NoCoins."""
@@ -153,7 +152,6 @@ class Town:
 
     def purse(self, hand):
         """Tell the purse of a hand. NoHand."""
-        self._keeper(hand)
         return self._court.purse(hand)
 
     def surely(self, hand):
@@ -184,15 +182,12 @@ class Town:
             raise NoHand("no such hand has come")
         return self._keepers[hand]
 
-    def _purses(self):
-        """Tell the coins of the hands, by hands, in the order in which they came."""
-        return {hand: self._court.purse(hand) for hand in self._keepers}
-
-    def _found(self, purses):
-        """Make court, signs and keepers anew: a court has its purses from its beginning on."""
+    def _found(self, hand, coins):
+        """Make court, signs and keepers anew with one hand more: a court has its purses from its beginning on."""
+        purses = [(other, self._court.purse(other)) for other in self._keepers]
         signs = Signs()
-        court = Court(signs, wait=self._court.patience(), purses=tuple(purses.items()))
-        self._keepers = {hand: Keeper(hand, court, signs, gap=self._gap, fee=self._fee) for hand in purses}
+        court = Court(signs, wait=self._court.patience(), purses=(*purses, (hand, coins)))
+        self._keepers = {other: Keeper(other, court, signs, gap=self._gap, fee=self._fee) for other in court.hands()}
         self._court = court
 
     def _opened(self, left, right, left_coins, right_coins):

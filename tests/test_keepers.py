@@ -109,8 +109,11 @@ class LanesTest(KeeperTest):
 
     def test_a_keeper_made_late(self):
         """Also of a lane that is closing or settled with a later state the first state is the newest one."""
+        self.court.show(3)
         self.lane("bert", "anna", 30, 20)
+        self.court.turn()
         self.lane("anna", "carl", 8, 9)
+        self.court.tell((1, 0, 8, 9, ()))
         told = self.sign_all((0, 4, 10, 36, ((2, "left", 4, S, 9),)))
         self.court.tell(told)
         keeper = Keeper("anna", self.court, self.signs)
@@ -247,9 +250,11 @@ class BillTest(KeeperTest):
         # Signed and told by stealth: a keeper would not know of this lock but by the court.
         self.court.tell(self.sign_all((lane, 9, 90, 100, ((1, "left", 10, S, 7),))))
         for _ in range(self.WAIT):
-            self.assertEqual(self.keeper.newest(lane), (lane, 0, 100, 100, ()))
             self.court.turn()
         self.assertEqual(len(self.court.held()), 1)
+        with self.assertRaises(Twice):
+            self.keeper.bill(7)
+        self.assertEqual(self.keeper.newest(lane), (lane, 0, 100, 100, ()))
         self.assert_refused(Twice, self.keeper.bill, 7)
         self.keeper.bill(8)
         for _ in range(3):

@@ -211,6 +211,13 @@ class CheapestTest(WayTest):
         net = [(0, "anna", "bert", 5, 99), (1, "anna", "carl", 99, 0), (2, "bert", "carl", 99, 99)]
         self.assertEqual(cheapest(net, "anna", "bert", 9), [(1, "anna", 9), (2, "carl", 9)])
 
+    def test_a_hand_that_is_not_in_the_fees_takes_nothing(self):
+        net = [(0, "anna", "bert", GREATEST, 0), (1, "bert", "carl", GREATEST, 0)]
+        for fees in (None, {}, {"anna": (1, 1), "carl": (1, 1), "dora": (1, 1)}):
+            for amount in (1000, GREATEST):
+                self.assertEqual(cheapest(net, "anna", "carl", amount, fees=fees)[0][2], amount)
+                self.assertEqual(way_paper(net, "carl", amount, fees=fees)["bert"], amount)
+
     def test_great_amounts(self):
         net = [(0, "anna", "bert", FORTY, 0), (1, "bert", "carl", FORTY, 0)]
         way = cheapest(net, "anna", "carl", GREATEST, fees={"bert": (GREATEST, 1000)})

@@ -160,3 +160,12 @@ class KeeperTest(unittest.TestCase):
         for hand in self.HANDS:
             self.signs.sign(hand, state)
         return state
+
+
+class TwoLanesTest(KeeperTest):
+    """Lane 0 leads from bert to anna, lane 1 from anna to carl; the first named is left and proposes first."""
+
+    def setUp(self):
+        super().setUp()
+        self.lane("bert", "anna")
+        self.lane("anna", "carl")
